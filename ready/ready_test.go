@@ -107,6 +107,7 @@ func (l line) place(id int) int {
 	return slices.IndexFunc(l, func(m member) bool { return m.id == id })
 }
 
+// P15.3 follows from what a line does.
 func TestAgainstModel(t *testing.T) {
 	r := rand.New(rand.NewSource(21))
 	q := ready.New()
