@@ -187,6 +187,19 @@ func TestSubmitCodes(t *testing.T) {
 	is(t, "P20.1: Submit of one that is reaped", d.Submit(req(7, 100, 3, h[1])), api.OK)
 }
 
+func TestSubmitEdges(t *testing.T) {
+	p, _ := pool.New([]api.Class{{Size: 65536, Count: 2}})
+	d, _ := ioq.New(p, 2, 1)
+	first, _ := p.Get(65536)
+	last, _ := p.Get(65536)
+	is(t, "P20.1: Submit of the least", d.Submit(api.Req{Dead: 2, Piece: api.Piece{Buf: first, Len: 1}}), api.OK)
+	greatest := api.Req{ID: 65535, Op: 15, Dead: api.Last - 1, Track: 1 << 20, Piece: api.Piece{Buf: last, From: 65535, Len: 1}}
+	is(t, "P20.1: Submit of the greatest", d.Submit(greatest), api.OK)
+	started(t, d, 0, 65535)
+	d.Take()
+	took(t, d, 1, greatest)
+}
+
 func TestFull(t *testing.T) {
 	d, p, h := made(t, 3, 65)
 	for id := range 64 {

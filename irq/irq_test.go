@@ -221,8 +221,20 @@ func TestCodes(t *testing.T) {
 	c.Go(20)
 	raise(t, c, 20, 1, false)
 	calls := []func(now uint64, no int) api.Code{
-		func(now uint64, no int) api.Code { _, code := c.Raise(now, no); return code },
-		func(now uint64, no int) api.Code { _, code := c.Ack(now, no); return code },
+		func(now uint64, no int) api.Code {
+			storm, code := c.Raise(now, no)
+			if storm {
+				t.Errorf("P13.1: a storm is told beside %v", code)
+			}
+			return code
+		},
+		func(now uint64, no int) api.Code {
+			n, code := c.Ack(now, no)
+			if n != 0 {
+				t.Errorf("P13.2: %v are told beside %v", n, code)
+			}
+			return code
+		},
 		func(now uint64, no int) api.Code { return c.Mask(now, no, true) },
 	}
 	for i, call := range calls {

@@ -73,6 +73,9 @@ func TestExample(t *testing.T) {
 	is(t, "P5.2: Wait at 10", n, code, 10, api.OK)
 	n, code = m.Take(10, top)
 	is(t, "P5.1: Take at 10", n, code, 3, api.OK)
+	m.Take(20, 2)
+	n, code = m.Wait(21)
+	is(t, "P5.2: Wait with one left", n, code, 21, api.OK)
 }
 
 func TestTakeByParts(t *testing.T) {
